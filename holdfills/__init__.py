@@ -1,0 +1,1 @@
+"""Shapes with places, and programs FOR ALL things."""

@@ -1,0 +1,56 @@
+"""What the other files share: kinds of values, powers, rows and the bound of lists."""
+
+from holdfills.errors import BadParameter, TooGreat
+
+MOST_THING = 10 ** 60
+MOST_LISTED = 400
+
+
+def is_below(value, end):
+    """Tell whether a value is an integer from 0 to end - 1."""
+    return isinstance(value, int) and not isinstance(value, bool) and 0 <= value < end
+
+
+def is_thing(value):
+    """Tell whether a value is a thing."""
+    return is_below(value, MOST_THING + 1)
+
+
+def is_tuple_of(value, size):
+    """Tell whether a value is a tuple with so many things."""
+    return isinstance(value, tuple) and len(value) == size
+
+
+def plain_row(row):
+    """Return the plain tuple of plain integers that is like a row of them."""
+    return tuple([int(number) for number in row])
+
+
+def need_many(many):
+    """Return how many unlike things are told, an integer from 0 to 10 ** 60."""
+    # A number of things has the bounds that a thing has.
+    if not is_thing(many):
+        raise BadParameter(many)
+    return int(many)
+
+
+def need_listable(count):
+    """Refuse to list or to try more things than the document allows."""
+    if count > MOST_LISTED:
+        raise TooGreat(MOST_LISTED)
+
+
+def power(base, exponent):
+    """Return an integer with an exponent from 0 on."""
+    result = 1
+    for _ in range(exponent):
+        result = result * base
+    return result
+
+
+def all_rows(lots):
+    """Return the list of all tuples with one thing from each lot, ascending if each lot is."""
+    rows = [()]
+    for lot in lots:
+        rows = [row + (thing,) for row in rows for thing in lot]
+    return rows

@@ -1,0 +1,75 @@
+"""The interface: each name in its file, with its parameters in their order."""
+
+import inspect
+import unittest
+
+from holdfills import fillings, holders, programs
+
+INTERFACE = {
+    holders: {
+        "need_holder": ["value"],
+        "plain_form": ["holder"],
+        "count_fillings": ["holder", "many"],
+    },
+    fillings: {
+        "need_filling": ["holder", "filling"],
+        "all_fillings": ["holder", "many"],
+        "own_filling": ["holder", "shape"],
+        "renamed": ["holder", "filling", "names"],
+    },
+    programs: {
+        "need_program": ["holder", "goal", "program"],
+        "done": ["holder", "goal", "program", "filling"],
+        "one_behind": ["holder", "middle", "goal", "first", "second"],
+        "still": ["holder"],
+        "count_programs": ["holder", "goal"],
+        "all_programs": ["holder", "goal"],
+        "program_of": ["holder", "goal", "answers"],
+        "told_apart": ["holder", "goal", "one", "other"],
+        "is_apart": ["holder", "goal", "one", "other", "value"],
+        "is_one_to_one": ["holder", "goal", "program"],
+        "is_onto": ["holder", "goal", "program"],
+        "back": ["holder", "goal", "program"],
+    },
+}
+
+PASSED = {
+    "value": (0, (1, 0)), "holder": (2, 1), "goal": (2, 1), "middle": (2, 1), "filling": (0, (5, 6)), "many": 2,
+    "shape": 1, "names": (0, 1, 2, 3, 4, 5, 6), "program": ((0, (1, 0)), (1, (0,))),
+    "first": ((0, (1, 0)), (1, (0,))), "second": ((0, (1, 0)), (1, (0,))), "one": ((0, (1, 0)), (1, (0,))),
+    "other": ((0, (0, 1)), (1, (0,))), "answers": ((0, (1, 0)), (1, (0,))),
+}
+
+
+class Interface(unittest.TestCase):
+
+    def test_names_stand_in_their_files_with_their_parameters(self):
+        for module, functions in INTERFACE.items():
+            for name, parameters in functions.items():
+                function = getattr(module, name)
+                self.assertTrue(inspect.isfunction(function), name)
+                self.assertEqual(function.__module__, module.__name__, name)
+                told = inspect.signature(function).parameters.values()
+                self.assertEqual([one.name for one in told], parameters, name)
+                for one in told:
+                    self.assertEqual(one.kind, one.POSITIONAL_OR_KEYWORD, name)
+                    self.assertIs(one.default, one.empty, name)
+
+    def test_parameters_are_passed_by_position_or_by_name(self):
+        for module, functions in INTERFACE.items():
+            for name, parameters in functions.items():
+                passed = {one: PASSED[one] for one in parameters}
+                if name == "need_holder":
+                    passed = {"value": (2, 1)}
+                function = getattr(module, name)
+                by_position = function(*passed.values())
+                self.assertEqual(function(**passed), by_position, name)
+                turned = dict(reversed(list(passed.items())))
+                self.assertEqual(function(**turned), by_position, name)
+                first = parameters[0]
+                rest = {one: passed[one] for one in parameters[1:]}
+                self.assertEqual(function(passed[first], **rest), by_position, name)
+
+
+if __name__ == "__main__":
+    unittest.main()
