@@ -35,6 +35,11 @@ def need_filling(holder, filling):
     return plain_filling(filling)
 
 
+def count_unlike(filling):
+    """Return how many unlike things a filling has."""
+    return len(set(filling[1]))
+
+
 def list_fillings(holder, many):
     """Return the ascending list of all fillings by the things from 0 to many - 1."""
     found = []

@@ -6,7 +6,8 @@ filling of the goal by the places of this shape.
 
 from holdfills.basics import all_rows, is_tuple_of, need_listable
 from holdfills.errors import BadFilling, BadParameter, BadProgram, NoRow
-from holdfills.fillings import is_filling, is_filling_by, list_fillings, need_filling, plain_filling
+from holdfills.fillings import count_unlike, is_filling, is_filling_by, list_fillings
+from holdfills.fillings import need_filling, plain_filling
 from holdfills.holders import how_many_fillings, need_holder
 
 
@@ -87,11 +88,6 @@ def telling_things(size, one, other):
         return tuple([0 for _ in range(size)])
     unlike = [max(place, away) for place, away in zip(one[1], other[1]) if place != away]
     return tuple([int(place == unlike[0]) for place in range(size)])
-
-
-def count_unlike(filling):
-    """Return how many unlike things a filling has."""
-    return len(set(filling[1]))
 
 
 def told_apart(holder, goal, one, other):

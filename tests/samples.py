@@ -1,5 +1,6 @@
 """What the tests share: wrong values of many kinds, small holders, and ways to go through all rows."""
 
+from functools import lru_cache
 from itertools import product
 
 MOST = 10 ** 60
@@ -101,3 +102,99 @@ def plain_throughout(value):
     if type(value) is tuple:
         return all(plain_throughout(part) for part in value)
     return type(value) is int
+
+
+def is_grown(row):
+    """Tell whether each number is at most the least one not met ahead of it."""
+    return all(number in row[:at] or number == len(set(row[:at])) for at, number in enumerate(row))
+
+
+def is_dense(row):
+    """Tell whether all integers from 0 to the greatest number are in the row."""
+    return set(row) == set(range(len(set(row))))
+
+
+def partings(size):
+    """Return all partings of so many places, found apart from the program."""
+    return [row for row in rows(max(size, 1), size) if is_grown(row)]
+
+
+def rankings(size):
+    """Return all rankings of so many places, found apart from the program."""
+    return [row for row in rows(max(size, 1), size) if is_dense(row)]
+
+
+def sets_of(size):
+    """Return all sets of at least one of so many places, ascending."""
+    return sorted(tuple(at for at in range(size) if row[at]) for row in rows(2, size) if any(row))
+
+
+@lru_cache(maxsize=None)
+def lots(size):
+    """Return all lots of so many places, found apart from the program."""
+    parts = sets_of(size)
+    found = []
+    for taken in product((False, True), repeat=len(parts)):
+        lot = tuple(one for one, inside in zip(parts, taken) if inside)
+        if lot and not any(set(one) < set(other) for one in lot for other in lot):
+            found.append(lot)
+    return sorted(found)
+
+
+def tables(views, holder, goal):
+    """Return all tables by partings or by rankings, found apart from the program."""
+    ways = []
+    for size in holder:
+        pairs = [[(to, way) for to, width in enumerate(goal) for way in rows(len(set(view)), width)]
+                 for view in views(size)]
+        ways.append(list(product(*pairs)))
+    return list(product(*ways))
+
+
+def injections(few, many):
+    """Return all renamings of so few things among so many that keep unlike things unlike."""
+    return [row for row in rows(many, few) if len(set(row)) == few]
+
+
+def climbs(few, many):
+    """Return all renamings of so few things among so many that keep greater things greater."""
+    return [row for row in rows(many, few) if list(row) == sorted(set(row))]
+
+
+def levels(few, many):
+    """Return all renamings of so few things among so many that never turn an order about."""
+    return [row for row in rows(many, few) if list(row) == sorted(row)]
+
+
+def families(holder, goal, most, renamings):
+    """Return all that does the same ahead of and behind the renamings of up to so many things, as dicts.
+
+    Such a thing has an answer for each filling by so many things, for each number of
+    things up to `most`; the answers are chosen one by one and held against those ahead.
+    """
+    asked = [(many, filling) for many in range(most + 1) for filling in fillings(holder, many)]
+    found = [{}]
+    for many, (shape, row) in asked:
+        # Where a renaming leads an earlier question to this one, or this one to an earlier one.
+        here, there = [], []
+        for few, (to, ahead) in asked[:asked.index((many, (shape, row)))]:
+            if to == shape:
+                here += [((few, (to, ahead)), names) for names in renamings(few, many)
+                         if tuple(names[thing] for thing in ahead) == row]
+                there += [((few, (to, ahead)), names) for names in renamings(many, few)
+                          if tuple(names[thing] for thing in row) == ahead]
+        itself = [names for names in renamings(many, many) if tuple(names[thing] for thing in row) == row]
+        grown = []
+        for family in found:
+            for answer in fillings(goal, many):
+                fits = all(named(family[one], names) == answer for one, names in here)
+                fits = fits and all(named(answer, names) == family[one] for one, names in there)
+                if fits and all(named(answer, names) == answer for names in itself):
+                    grown.append({**family, (many, (shape, row)): answer})
+        found = grown
+    return found
+
+
+def named(filling, names):
+    """Return the filling with names[T] for each thing T."""
+    return filling[0], tuple(names[thing] for thing in filling[1])

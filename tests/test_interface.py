@@ -3,7 +3,7 @@
 import inspect
 import unittest
 
-from holdfills import fillings, holders, programs
+from holdfills import comparers, fillings, holders, lots, partings, programs, rankers
 
 INTERFACE = {
     holders: {
@@ -31,6 +31,34 @@ INTERFACE = {
         "is_onto": ["holder", "goal", "program"],
         "back": ["holder", "goal", "program"],
     },
+    partings: {
+        "need_parting": ["parting"],
+        "need_ranking": ["ranking"],
+        "parting_of": ["row"],
+        "ranking_of": ["row"],
+        "all_partings": ["size"],
+        "all_rankings": ["size"],
+    },
+    lots: {
+        "need_lot": ["size", "lot"],
+        "all_lots": ["size"],
+        "lot_rows": ["size", "lot"],
+        "lot_of": ["size", "rows"],
+    },
+    comparers: {
+        "need_comparer": ["holder", "goal", "comparer"],
+        "comparer_done": ["holder", "goal", "comparer", "filling"],
+        "comparer_behind": ["holder", "middle", "goal", "first", "second"],
+        "count_comparers": ["holder", "goal"],
+        "comparers_apart": ["holder", "goal", "one", "other"],
+    },
+    rankers: {
+        "need_ranker": ["holder", "goal", "ranker"],
+        "ranker_done": ["holder", "goal", "ranker", "filling"],
+        "ranker_behind": ["holder", "middle", "goal", "first", "second"],
+        "count_rankers": ["holder", "goal"],
+        "rankers_apart": ["holder", "goal", "one", "other"],
+    },
 }
 
 PASSED = {
@@ -38,6 +66,16 @@ PASSED = {
     "shape": 1, "names": (0, 1, 2, 3, 4, 5, 6), "program": ((0, (1, 0)), (1, (0,))),
     "first": ((0, (1, 0)), (1, (0,))), "second": ((0, (1, 0)), (1, (0,))), "one": ((0, (1, 0)), (1, (0,))),
     "other": ((0, (0, 1)), (1, (0,))), "answers": ((0, (1, 0)), (1, (0,))),
+    "parting": (0, 1, 0), "ranking": (1, 0, 1), "row": (7, 5), "size": 2, "lot": ((0, 1),), "rows": (0, 1, 1, 1),
+}
+COMPARER = (((0, (0, 0)), (0, (1, 0))), ((1, (0,)),))
+RANKER = (((0, (0, 0)), (0, (1, 0)), (1, (1,))), ((1, (0,)),))
+# What is passed in one module alone.
+PASSED_THERE = {
+    comparers: {"comparer": COMPARER, "first": COMPARER, "second": COMPARER, "one": COMPARER,
+                "other": (((0, (0, 0)), (0, (0, 1))), ((1, (0,)),))},
+    rankers: {"ranker": RANKER, "first": RANKER, "second": RANKER, "one": RANKER,
+              "other": (((0, (0, 0)), (0, (0, 1)), (1, (1,))), ((1, (0,)),))},
 }
 
 
@@ -58,7 +96,8 @@ class Interface(unittest.TestCase):
     def test_parameters_are_passed_by_position_or_by_name(self):
         for module, functions in INTERFACE.items():
             for name, parameters in functions.items():
-                passed = {one: PASSED[one] for one in parameters}
+                told = {**PASSED, **PASSED_THERE.get(module, {})}
+                passed = {one: told[one] for one in parameters}
                 if name == "need_holder":
                     passed = {"value": (2, 1)}
                 function = getattr(module, name)

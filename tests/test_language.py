@@ -97,6 +97,20 @@ class Imports(unittest.TestCase):
             for name in local + bound:
                 self.assertFalse(hasattr(builtins, name), (path, name))
 
+    def test_l16_no_two_files_import_from_each_other(self):
+        graph = {}
+        for path, tree in trees():
+            modules = [node.module for node in tree.body if isinstance(node, ast.ImportFrom)]
+            graph[path.stem] = {name.split(".")[1] for name in modules if name.startswith("holdfills.")}
+        for name in graph:
+            reached, waiting = set(), list(graph[name])
+            while waiting:
+                one = waiting.pop()
+                if one not in reached:
+                    reached.add(one)
+                    waiting.extend(graph[one])
+            self.assertNotIn(name, reached)
+
     def test_no_import_goes_unused(self):
         for path, tree in trees():
             read = [node.id for node in ast.walk(tree) if isinstance(node, ast.Name) and isinstance(node.ctx, ast.Load)]
