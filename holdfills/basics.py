@@ -1,6 +1,6 @@
 """What the other files share: kinds of values, powers, rows and the bound of lists."""
 
-from holdfills.errors import BadParameter, TooGreat
+from holdfills.errors import BadIndex, BadParameter, TooGreat
 
 MOST_THING = 10 ** 60
 MOST_LISTED = 400
@@ -24,6 +24,13 @@ def is_tuple_of(value, size):
 def plain_row(row):
     """Return the plain tuple of plain integers that is like a row of them."""
     return tuple([int(number) for number in row])
+
+
+def need_index(count, value):
+    """Return the number of one of so many; BadIndex(value) for anything else."""
+    if not is_below(value, count):
+        raise BadIndex(value)
+    return int(value)
 
 
 def need_many(many):
@@ -54,3 +61,13 @@ def all_rows(lots):
     for lot in lots:
         rows = [row + (thing,) for row in rows for thing in lot]
     return rows
+
+
+def cut_row(row, sizes):
+    """Return the list of the parts of a row, in their order, that have these sizes."""
+    parts = []
+    start = 0
+    for size in sizes:
+        parts.append(tuple(row[start:start + size]))
+        start += size
+    return parts

@@ -1,19 +1,22 @@
 """Fillings: the number of a shape, and a thing for each of its places."""
 
 from holdfills.basics import MOST_LISTED, MOST_THING, all_rows, is_below, is_thing
-from holdfills.basics import is_tuple_of, need_listable, need_many, plain_row
-from holdfills.errors import BadFilling, BadIndex, BadParameter, NoRow
+from holdfills.basics import is_tuple_of, need_index, need_listable, need_many, plain_row
+from holdfills.errors import BadFilling, BadParameter, NoRow
 from holdfills.holders import how_many_fillings, need_holder
+
+
+def is_shaped(holder, value):
+    """Tell whether a value is a pair of a shape of a checked holder and a tuple with something for each place."""
+    if not is_tuple_of(value, 2):
+        return False
+    shape, things = value
+    return is_below(shape, len(holder)) and is_tuple_of(things, holder[shape])
 
 
 def is_filling_by(holder, many, value):
     """Tell whether a value is a filling of a checked holder by the things from 0 to many - 1."""
-    if not is_tuple_of(value, 2):
-        return False
-    shape, things = value
-    if not is_below(shape, len(holder)) or not is_tuple_of(things, holder[shape]):
-        return False
-    return all([is_below(thing, many) for thing in things])
+    return is_shaped(holder, value) and all([is_below(thing, many) for thing in value[1]])
 
 
 def is_filling(holder, value):
@@ -61,9 +64,8 @@ def all_fillings(holder, many):
 def own_filling(holder, shape):
     """Return the filling of a shape with the thing P at the place P."""
     holder = need_holder(holder)
-    if not is_below(shape, len(holder)):
-        raise BadIndex(shape)
-    return int(shape), tuple(range(holder[shape]))
+    shape = need_index(len(holder), shape)
+    return shape, tuple(range(holder[shape]))
 
 
 def need_names(names):

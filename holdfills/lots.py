@@ -91,14 +91,21 @@ def need_answers(size, rows):
     return plain_row(rows)
 
 
+def least_sets(size, answers):
+    """Return those sets of places, ascending, whose ones are led to 1, and within which there is no other one.
+
+    If the answers are those of a lot, this is the lot.
+    """
+    taken = [ones_of(row) for row, answer in zip(rows_of_bits(size), answers) if answer == 1]
+    least = [one for one in taken if all([one == other or not is_within(other, one) for other in taken])]
+    return tuple(sorted(least))
+
+
 def lot_of(size, rows):
     """Return the lot that leads the rows of zeros and ones to these answers; NoRow() if there is none."""
     size = need_size(size)
     rows = need_answers(size, rows)
-    taken = [ones_of(row) for row, answer in zip(rows_of_bits(size), rows) if answer == 1]
-    # Of the sets whose ones lead to 1 the lot has those within which there is no other one.
-    least = [one for one in taken if all([one == other or not is_within(other, one) for other in taken])]
-    lot = tuple(sorted(least))
+    lot = least_sets(size, rows)
     if not is_lot(size, lot) or answers_of(size, lot) != rows:
         raise NoRow()
     return lot

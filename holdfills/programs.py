@@ -49,25 +49,32 @@ def still(holder):
     return tuple([(shape, tuple(range(size))) for shape, size in enumerate(holder)])
 
 
-def count_programs(holder, goal):
-    """Return how many programs there are from the holder to the goal."""
-    holder = need_holder(holder)
-    goal = need_holder(goal)
+def how_many_programs(sizes, goal):
+    """Return how many programs there are from shapes of such sizes to a checked goal."""
     count = 1
-    for size in holder:
+    for size in sizes:
         count = count * how_many_fillings(goal, size)
     return count
 
 
+def count_programs(holder, goal):
+    """Return how many programs there are from the holder to the goal."""
+    holder = need_holder(holder)
+    return how_many_programs(holder, need_holder(goal))
+
+
+def list_programs(sizes, goal):
+    """Return the ascending list of all programs from shapes of such sizes to a checked goal."""
+    if how_many_programs(sizes, goal) == 0:
+        # One shape can go nowhere; another one may have more ways to go than can be listed.
+        return []
+    return all_rows([list_fillings(goal, size) for size in sizes])
+
+
 def all_programs(holder, goal):
     """Return the ascending tuple of all programs; TooGreat(400) for more than 400."""
-    count = count_programs(holder, goal)
-    need_listable(count)
-    if count == 0:
-        # One shape can go nowhere; another one may have more ways to go than can be listed.
-        return ()
-    lots = [list_fillings(goal, size) for size in need_holder(holder)]
-    return tuple(all_rows(lots))
+    need_listable(count_programs(holder, goal))
+    return tuple(list_programs(need_holder(holder), need_holder(goal)))
 
 
 def program_of(holder, goal, answers):

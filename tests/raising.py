@@ -1,6 +1,7 @@
-"""How the tests ask for an error, to its class and its attribute."""
+"""How the tests ask for an error, to its class and its attribute, and for an answer in no noticeable time."""
 
 import unittest
+from time import perf_counter
 
 from holdfills.errors import HoldError
 
@@ -24,3 +25,10 @@ class Case(unittest.TestCase):
                     self.assertIs(found.__class__, expected.__class__)
             return
         self.fail("no error was raised where %s is asked for" % error.__name__)
+
+    def quick(self, action, *parameters):
+        """Return what the action returns, and check that it took no noticeable time."""
+        started = perf_counter()
+        found = action(*parameters)
+        self.assertLess(perf_counter() - started, 2)
+        return found

@@ -114,11 +114,13 @@ def is_dense(row):
     return set(row) == set(range(len(set(row))))
 
 
+@lru_cache(maxsize=None)
 def partings(size):
     """Return all partings of so many places, found apart from the program."""
     return [row for row in rows(max(size, 1), size) if is_grown(row)]
 
 
+@lru_cache(maxsize=None)
 def rankings(size):
     """Return all rankings of so many places, found apart from the program."""
     return [row for row in rows(max(size, 1), size) if is_dense(row)]
@@ -149,6 +151,42 @@ def tables(views, holder, goal):
                  for view in views(size)]
         ways.append(list(product(*pairs)))
     return list(product(*ways))
+
+
+def risers(holder, goal):
+    """Return all risers, found apart from the program."""
+    ways = [[(to, way) for to, width in enumerate(goal) for way in product(lots(size), repeat=width)] for size in holder]
+    return list(product(*ways))
+
+
+def lead_lot(lot, row):
+    """Return the greatest, over the sets of a lot, of the least thing in the set."""
+    return max(min(row[place] for place in places) for places in lot)
+
+
+def lead_riser(riser, filling):
+    """Return where a riser leads a filling, found apart from the program."""
+    to, told = riser[filling[0]]
+    return to, tuple(lead_lot(lot, filling[1]) for lot in told)
+
+
+def lead_table(views, see, table, filling):
+    """Return where a table by partings or by rankings leads a filling, found apart from the program."""
+    shape, row = filling
+    to, told = table[shape][views(len(row)).index(see(row))]
+    things = dict(zip(see(row), row))
+    return to, tuple(things[number] for number in told)
+
+
+def see_alike(row):
+    """Return the parting of a row, found apart from the program."""
+    met = sorted(set(row), key=row.index)
+    return tuple(met.index(thing) for thing in row)
+
+
+def see_greater(row):
+    """Return the ranking of a row, found apart from the program."""
+    return tuple(sorted(set(row)).index(thing) for thing in row)
 
 
 def injections(few, many):

@@ -5,7 +5,7 @@ from math import prod
 
 from holdfills.errors import BadFilling, BadHolder, BadProgram, NoRow, TooGreat
 from samples import MOST, Number, STRANGE, STRANGE_INTEGERS, STRANGE_TUPLES
-from samples import families, fillings, named, plain_throughout, rows, tables
+from samples import families, fillings, lead_table, named, plain_throughout, rows, tables
 
 HERE = [(), (0,), (1,), (2,), (0, 1), (1, 1), (2, 0)]
 THERE = [(), (0,), (1,), (0, 1), (2,)]
@@ -23,11 +23,7 @@ class Tables:
 
     def lead(self, table, filling):
         """Return where a table leads a filling, found apart from the program."""
-        shape, row = filling
-        view = self.see(row)
-        to, told = table[shape][self.views(len(row)).index(view)]
-        things = dict(zip(view, row))
-        return to, tuple(things[number] for number in told)
+        return lead_table(self.views, self.see, table, filling)
 
     def whole(self, holder, goal=(0, 3)):
         """Return the table that leads all to the last shape of the goal, each place getting the number 0."""

@@ -5,7 +5,7 @@ import unittest
 from holdfills.comparers import comparer_behind, comparer_done, comparers_apart, count_comparers, need_comparer
 from holdfills.partings import parting_of
 from raising import Case
-from samples import fillings, injections, named, partings, rows, tables
+from samples import fillings, injections, named, partings, rows, see_alike, tables
 from tabled import Tables
 
 # It keeps one of two like things, else both.
@@ -21,10 +21,7 @@ class Comparers(Tables, Case):
     apart = staticmethod(comparers_apart)
     views = staticmethod(partings)
     renamings = staticmethod(injections)
-
-    def see(self, row):
-        met = sorted(set(row), key=row.index)
-        return tuple(met.index(thing) for thing in row)
+    see = staticmethod(see_alike)
 
     def test_the_example(self):
         self.assertEqual(need_comparer((2,), (1, 2), EXAMPLE), EXAMPLE)

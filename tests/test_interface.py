@@ -3,7 +3,8 @@
 import inspect
 import unittest
 
-from holdfills import comparers, fillings, holders, lots, partings, programs, rankers
+from holdfills import comparers, counts, cuts, fillings, holders, lots, needs, networks, partings, programs, rankers
+from holdfills import risers
 
 INTERFACE = {
     holders: {
@@ -59,6 +60,38 @@ INTERFACE = {
         "count_rankers": ["holder", "goal"],
         "rankers_apart": ["holder", "goal", "one", "other"],
     },
+    risers: {
+        "need_riser": ["holder", "goal", "riser"],
+        "riser_done": ["holder", "goal", "riser", "filling"],
+        "riser_behind": ["holder", "middle", "goal", "first", "second"],
+        "count_risers": ["holder", "goal"],
+        "risers_apart": ["holder", "goal", "one", "other"],
+    },
+    needs: {
+        "as_comparer": ["holder", "goal", "program"],
+        "as_riser": ["holder", "goal", "program"],
+        "comparer_as_ranker": ["holder", "goal", "comparer"],
+        "riser_as_ranker": ["holder", "goal", "riser"],
+        "needs_only": ["holder", "goal", "ranker"],
+    },
+    networks: {
+        "is_sorter": ["size", "riser"],
+        "unsorted_row": ["size", "riser"],
+        "sorter": ["size"],
+        "network": ["size", "steps"],
+    },
+    counts: {
+        "fillings_line": ["holder"],
+        "same_counts": ["one", "other"],
+        "counts_apart": ["one", "other"],
+        "taken_off": ["one", "other"],
+        "quotient": ["one", "other"],
+    },
+    cuts: {
+        "all_cuts": ["holder"],
+        "holes": ["holder"],
+        "hole_filled": ["holder", "shape", "place", "things", "thing"],
+    },
 }
 
 PASSED = {
@@ -70,12 +103,19 @@ PASSED = {
 }
 COMPARER = (((0, (0, 0)), (0, (1, 0))), ((1, (0,)),))
 RANKER = (((0, (0, 0)), (0, (1, 0)), (1, (1,))), ((1, (0,)),))
+RISER = ((0, (((0, 1),), ((0,), (1,)))), (1, (((0,),),)))
+STILL = ((0, (((0,),), ((1,),))), (1, (((0,),),)))
 # What is passed in one module alone.
 PASSED_THERE = {
     comparers: {"comparer": COMPARER, "first": COMPARER, "second": COMPARER, "one": COMPARER,
                 "other": (((0, (0, 0)), (0, (0, 1))), ((1, (0,)),))},
     rankers: {"ranker": RANKER, "first": RANKER, "second": RANKER, "one": RANKER,
               "other": (((0, (0, 0)), (0, (0, 1)), (1, (1,))), ((1, (0,)),))},
+    risers: {"riser": RISER, "first": RISER, "second": RISER, "one": RISER, "other": STILL},
+    needs: {"comparer": COMPARER, "riser": RISER, "ranker": RANKER},
+    networks: {"riser": STILL[:1], "steps": ((0, 1),)},
+    counts: {"one": (1, 2, 2, 3), "other": (1,)},
+    cuts: {"shape": 0, "place": 1, "things": (5,), "thing": 6},
 }
 
 

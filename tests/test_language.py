@@ -174,8 +174,11 @@ class Statements(unittest.TestCase):
         for path, node in all_nodes(ast.BinOp):
             if isinstance(node.op, ast.Pow):
                 self.assertIn(node.right.value, range(65), path)
-        for path in FILES:
-            self.assertNotIn("%", path.read_text(encoding="utf-8"))
+
+    def test_l27_no_such_sign_in_strings(self):
+        for path, node in all_nodes(ast.Constant):
+            if isinstance(node.value, str):
+                self.assertNotIn("%", node.value, path)
 
 
 if __name__ == "__main__":

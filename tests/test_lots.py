@@ -7,11 +7,7 @@ from holdfills.errors import BadLot, BadParameter, NoRow, TooGreat
 from holdfills.lots import all_lots, lot_of, lot_rows, need_lot
 from raising import Case
 from samples import MOST, Number, STRANGE, STRANGE_INTEGERS, STRANGE_TUPLES
-from samples import families, levels, lots, plain_throughout, rows, sets_of
-
-
-def lead(lot, row):
-    return max(min(row[place] for place in places) for places in lot)
+from samples import families, lead_lot, levels, lots, plain_throughout, rows, sets_of
 
 
 def is_rising(size, answers):
@@ -96,7 +92,7 @@ class LotRows(Case):
     def test_all_lots_at_all_rows(self):
         for size in range(5):
             for lot in lots(size):
-                self.assertEqual(lot_rows(size, lot), tuple(lead(lot, row) for row in rows(2, size)))
+                self.assertEqual(lot_rows(size, lot), tuple(lead_lot(lot, row) for row in rows(2, size)))
 
     def test_to_the_letter(self):
         self.assertEqual(lot_rows(2, ((0,),)), (0, 0, 1, 1))
@@ -130,7 +126,7 @@ class LotOf(Case):
 
     def some_tables(self):
         """Return the tables of four places that differ in at most one answer from that of a lot."""
-        whole = {tuple(lead(lot, row) for row in rows(2, 4)) for lot in lots(4)}
+        whole = {tuple(lead_lot(lot, row) for row in rows(2, 4)) for lot in lots(4)}
         turned = {table[:at] + (1 - table[at],) + table[at + 1:] for table in whole for at in range(16)}
         return sorted(whole | turned | {(0,) * 16, (1,) * 16})
 
@@ -162,7 +158,7 @@ class NeverTurningAnOrderAbout(Case):
     def test_what_does_the_same_behind_such_renamings_is_exactly_one_lot(self):
         for size in range(4):
             found = families((size,), (1,), size, levels)
-            told = [{(many, (0, row)): (0, (lead(lot, row),)) for many in range(size + 1) for row in rows(many, size)}
+            told = [{(many, (0, row)): (0, (lead_lot(lot, row),)) for many in range(size + 1) for row in rows(many, size)}
                     for lot in all_lots(size)]
             self.assertEqual(len(found), len(told))
             for family in found:

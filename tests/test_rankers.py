@@ -6,7 +6,7 @@ from holdfills.comparers import comparer_done
 from holdfills.partings import ranking_of
 from holdfills.rankers import count_rankers, need_ranker, ranker_behind, ranker_done, rankers_apart
 from raising import Case
-from samples import climbs, fillings, named, rankings, rows
+from samples import climbs, fillings, named, rankings, rows, see_greater
 from tabled import Tables
 
 # It keeps one of two like things, else both.
@@ -23,9 +23,7 @@ class Rankers(Tables, Case):
     apart = staticmethod(rankers_apart)
     views = staticmethod(rankings)
     renamings = staticmethod(climbs)
-
-    def see(self, row):
-        return tuple(sorted(set(row)).index(thing) for thing in row)
+    see = staticmethod(see_greater)
 
     def test_the_example_does_what_the_comparer_does(self):
         self.assertEqual(need_ranker((2,), (1, 2), EXAMPLE), EXAMPLE)
