@@ -97,7 +97,8 @@ class AllCuts(Case):
 
     def test_24_shapes_of_like_and_of_unlike_numbers_of_places(self):
         listed = [(0, 1, 3, 4), (0, 1, 2, 3, 4, 5), (0, 2, 4, 6, 6, 8), (0, 0, 0, 0, 0, 1)]
-        listed = [product_of((0, 1, 2, 3), one) for one in listed] + [tuple(range(12)) * 2, tuple(range(13)) + tuple(range(1, 12))]
+        listed = [product_of((0, 1, 2, 3), one) for one in listed]
+        listed += [tuple(range(12)) * 2, tuple(range(13)) + tuple(range(1, 12))]
         listed += [(0, 1) * 12, (0, 12) * 12, (0, 6, 12) * 8, (5, 6) * 12, product_of((0, 1, 1, 2), (0, 2, 2, 4, 6, 8))]
         for holder in listed:
             self.quick(all_cuts, holder)

@@ -3,8 +3,8 @@
 import inspect
 import unittest
 
-from holdfills import comparers, counts, cuts, fillings, holders, lots, needs, networks, partings, programs, rankers
-from holdfills import risers
+from holdfills import comparers, counts, cuts, deeds, fillings, holders, inside, lots, needs, networks, partings
+from holdfills import powers, programs, rankers, risers, standings
 
 INTERFACE = {
     holders: {
@@ -92,6 +92,47 @@ INTERFACE = {
         "holes": ["holder"],
         "hole_filled": ["holder", "shape", "place", "things", "thing"],
     },
+    deeds: {
+        "added": ["one", "other"],
+        "multiplied": ["one", "other"],
+        "beside": ["one", "other"],
+        "into_first": ["one", "other"],
+        "into_second": ["one", "other"],
+        "either": ["one", "other", "goal", "first", "second"],
+        "first_of": ["one", "other"],
+        "second_of": ["one", "other"],
+        "paired": ["holder", "one", "other", "first", "second"],
+        "both_added": ["holders", "first", "second"],
+        "both_multiplied": ["holders", "first", "second"],
+        "both_beside": ["holders", "first", "second"],
+    },
+    inside: {
+        "put_into": ["one", "other"],
+        "shape_into": ["one", "other", "shape", "shapes"],
+        "parts_into": ["one", "other", "number"],
+        "filling_into": ["one", "other", "shape", "fillings"],
+        "fillings_out": ["one", "other", "filling"],
+        "both_into": ["holders", "first", "second"],
+        "regrouped": ["one", "middle", "other"],
+        "spread": ["one", "other", "inner"],
+        "crossed": ["holders"],
+    },
+    powers: {
+        "program_holder": ["one", "other"],
+        "fed": ["holder", "one", "other", "program"],
+        "unfed": ["holder", "one", "other", "program"],
+        "applied": ["one", "other"],
+        "beside_holder": ["one", "other"],
+        "fed_beside": ["holder", "one", "other", "program"],
+        "unfed_beside": ["holder", "one", "other", "program"],
+    },
+    standings: {
+        "need_standing": ["holder", "standing"],
+        "need_land": ["land"],
+        "look_here": ["land"],
+        "look_all": ["land"],
+        "standing_by": ["holder", "first", "second"],
+    },
 }
 
 PASSED = {
@@ -105,6 +146,8 @@ COMPARER = (((0, (0, 0)), (0, (1, 0))), ((1, (0,)),))
 RANKER = (((0, (0, 0)), (0, (1, 0)), (1, (1,))), ((1, (0,)),))
 RISER = ((0, (((0, 1),), ((0,), (1,)))), (1, (((0,),),)))
 STILL = ((0, (((0,),), ((1,),))), (1, (((0,),),)))
+KEEP = ((0, (0,)), (1, ()))
+BACK = ((0, ((0, (0, 1)), (0, (1, 0)))),)
 # What is passed in one module alone.
 PASSED_THERE = {
     comparers: {"comparer": COMPARER, "first": COMPARER, "second": COMPARER, "one": COMPARER,
@@ -116,6 +159,11 @@ PASSED_THERE = {
     networks: {"riser": STILL[:1], "steps": ((0, 1),)},
     counts: {"one": (1, 2, 2, 3), "other": (1,)},
     cuts: {"shape": 0, "place": 1, "things": (5,), "thing": 6},
+    deeds: {"one": (2, 1), "other": (2, 1), "holders": ((2, 1),) * 4},
+    inside: {"one": (1, 0), "middle": (1, 0), "other": (1, 0), "inner": (1, 0), "holders": ((1, 0),) * 4, "first": KEEP,
+             "second": KEEP, "shape": 0, "shapes": (1,), "number": 1, "fillings": ((0, (7,)),), "filling": (0, (7,))},
+    powers: {"holder": (1,), "one": (1,), "other": (1,), "program": ((0, (0,)),)},
+    standings: {"holder": (2,), "standing": BACK, "land": ((2,), BACK), "first": ((0, (0,)),), "second": ((0, (0, 1, 1, 0)),)},
 }
 
 

@@ -35,6 +35,10 @@ def all_nodes(kinds):
     return [(path, node) for path, tree in trees() for node in ast.walk(tree) if isinstance(node, kinds)]
 
 
+def is_read(name):
+    return isinstance(name.ctx, ast.Load)
+
+
 def names_at_top(path):
     """Return the names that a file itself defines, by def, by class or by one assignment."""
     found = []
@@ -118,6 +122,19 @@ class Imports(unittest.TestCase):
                 if isinstance(node, ast.ImportFrom):
                     for one in node.names:
                         self.assertIn(one.name, read, path)
+
+
+    def test_each_name_that_is_read_is_bound(self):
+        for path, tree in trees():
+            known = names_at_top(path) + [one.name for node in tree.body if isinstance(node, ast.ImportFrom)
+                                          for one in node.names]
+            for node in ast.walk(tree):
+                if isinstance(node, ast.FunctionDef):
+                    local = [one.arg for one in ast.walk(node) if isinstance(one, ast.arg)]
+                    local += [one.id for one in ast.walk(node) if isinstance(one, ast.Name) and not is_read(one)]
+                    for one in ast.walk(node):
+                        if isinstance(one, ast.Name) and is_read(one) and not hasattr(builtins, one.id):
+                            self.assertIn(one.id, local + known, path)
 
 
 class Statements(unittest.TestCase):
