@@ -3,6 +3,8 @@
 The shape (I, J) of a made holder has the number I * MANY + J, with MANY the number of
 shapes of the second holder; the place (P, Q) of a shape of holders beside one another
 has the number P * WIDTH + Q, with WIDTH the number of places of J.
+
+Where a holder is made and not used, it is made for its errors: it may be too great.
 """
 
 from holdfills.basics import is_tuple_of
@@ -60,7 +62,7 @@ def in_both(pair, more, many):
 
 def in_each(pair, more, many, width):
     """Return the pair of shapes, `many` of the second kind, and the pairs of places, `width` of the second kind."""
-    return pair[0] * many + more[0], tuple([place * width + other for place in pair[1] for other in more[1]])
+    return pair[0] * many + more[0], tuple([place * width + away for place in pair[1] for away in more[1]])
 
 
 def into_first(one, other):
@@ -116,33 +118,33 @@ def need_four(holders):
     return tuple([need_holder(holder) for holder in holders])
 
 
-def both_added(holders, first, second):
-    """Return the program that does the first one on shapes of A, the second one on those of C."""
+def need_both(make, holders, first, second):
+    """Return four holders, with a program from A to B and one from C to D, of which `make` makes two: A, C and B, D."""
     one, one_goal, other, other_goal = need_four(holders)
     first = need_program(one, one_goal, first)
     second = need_program(other, other_goal, second)
-    added(one, other)
-    added(one_goal, other_goal)
-    return first + tuple([moved(pair, len(one_goal), 0) for pair in second])
+    make(one, other)
+    make(one_goal, other_goal)
+    return (one, one_goal, other, other_goal), first, second
+
+
+def both_added(holders, first, second):
+    """Return the program that does the first one on shapes of A, the second one on those of C."""
+    holders, first, second = need_both(added, holders, first, second)
+    return first + tuple([moved(pair, len(holders[1]), 0) for pair in second])
 
 
 def both_multiplied(holders, first, second):
     """Return the program that does the first one in the first half, the second one in the second half."""
-    one, one_goal, other, other_goal = need_four(holders)
-    first = need_program(one, one_goal, first)
-    second = need_program(other, other_goal, second)
-    multiplied(one, other)
-    multiplied(one_goal, other_goal)
-    many = len(other_goal)
-    return tuple([in_both(pair, moved(more, 0, size), many) for size, pair in zip(one, first) for more in second])
+    holders, first, second = need_both(multiplied, holders, first, second)
+    many = len(holders[3])
+    sized = list(zip(holders[0], first))
+    return tuple([in_both(pair, moved(more, 0, size), many) for size, pair in sized for more in second])
 
 
 def both_beside(holders, first, second):
     """Return the program that does the first one in the first half of each place, the second one in the second half."""
-    one, one_goal, other, other_goal = need_four(holders)
-    first = need_program(one, one_goal, first)
-    second = need_program(other, other_goal, second)
-    beside(one, other)
-    beside(one_goal, other_goal)
-    many = len(other_goal)
-    return tuple([in_each(pair, more, many, width) for pair in first for width, more in zip(other, second)])
+    holders, first, second = need_both(beside, holders, first, second)
+    many = len(holders[3])
+    sized = list(zip(holders[2], second))
+    return tuple([in_each(pair, more, many, width) for pair in first for width, more in sized])

@@ -7,11 +7,12 @@ too: a pair (SHAPE, FILLINGS).
 """
 
 from holdfills.basics import cut_row, is_tuple_of, need_index
-from holdfills.deeds import beside, in_both, in_each, multiplied, need_few_places, need_few_shapes, need_four
+from holdfills.deeds import beside, in_both, in_each, multiplied
+from holdfills.deeds import need_both, need_few_places, need_few_shapes, need_four
 from holdfills.errors import BadFilling, BadParameter
 from holdfills.fillings import is_filling, list_fillings, need_filling, plain_filling
 from holdfills.holders import how_many_fillings, need_holder
-from holdfills.programs import led, need_program
+from holdfills.programs import led
 
 
 def put_into(one, other):
@@ -101,15 +102,11 @@ def all_own(one, other):
 
 def both_into(holders, first, second):
     """Return the program that does the first one with fillings as things, and the second one in each place."""
-    one, one_goal, other, other_goal = need_four(holders)
-    first = need_program(one, one_goal, first)
-    second = need_program(other, other_goal, second)
-    put_into(one, other)
-    put_into(one_goal, other_goal)
+    holders, first, second = need_both(put_into, holders, first, second)
     found = []
-    for own in all_own(one, other):
+    for own in all_own(holders[0], holders[2]):
         shape, fillings = led(first, own)
-        found.append(filled_into(one_goal, other_goal, shape, [led(second, filling) for filling in fillings]))
+        found.append(filled_into(holders[1], holders[3], shape, [led(second, filling) for filling in fillings]))
     return tuple(found)
 
 
