@@ -1,4 +1,4 @@
-"""What the other files share: kinds of values, powers, rows and the bound of lists."""
+"""What the other files share: kinds of values, powers, rules, rows and the bound of lists."""
 
 from holdfills.errors import BadIndex, BadParameter, TooGreat
 
@@ -53,6 +53,19 @@ def power(base, exponent):
     for _ in range(exponent):
         result = result * base
     return result
+
+
+def first_broken(rules, *parts):
+    """Return the first place that is broken, the least rule first; None if all rules are kept.
+
+    Each rule is a function that returns the list of the places at which these parts break it.
+    """
+    for rule in rules:
+        # A rule asks only what is there if those ahead of it are kept.
+        broken = rule(*parts)
+        if broken:
+            return broken[0]
+    return None
 
 
 def all_rows(lots):

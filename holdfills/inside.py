@@ -20,7 +20,7 @@ def put_into(one, other):
     one = need_holder(one)
     other = need_holder(other)
     need_few_shapes(how_many_fillings(one, len(other)))
-    return need_few_places([sum([other[part] for part in parts]) for _, parts in list_fillings(one, len(other))])
+    return need_few_places([sum([other[part] for part in parts]) for _, parts in list_parts(one, other)])
 
 
 def number_into(one, other, shape, shapes):
@@ -31,9 +31,14 @@ def number_into(one, other, shape, shapes):
     return how_many_fillings(one[:shape], len(other)) + number
 
 
+def list_parts(one, other):
+    """Return the list of the shapes of `other` put into `one`: pairs of a shape and shapes, by their numbers."""
+    return list_fillings(one, len(other))
+
+
 def parts_at(one, other, number):
     """Return the shape of `one`, and the shapes of `other` at its places, that have a checked number."""
-    return list_fillings(one, len(other))[number]
+    return list_parts(one, other)[number]
 
 
 def need_parts(one, other, shape, shapes):
@@ -70,6 +75,13 @@ def taken_out(one, other, filling):
     shape, shapes = parts_at(one, other, filling[0])
     rows = cut_row(filling[1], [other[part] for part in shapes])
     return shape, tuple([(part, things) for part, things in zip(shapes, rows)])
+
+
+def taken_apart(filling):
+    """Return the shape and the shapes at its places of a filling by fillings, and the list of the things of these."""
+    shape, fillings = filling
+    parts = tuple([part for part, _ in fillings])
+    return (shape, parts), [thing for _, things in fillings for thing in things]
 
 
 def filling_into(one, other, shape, fillings):

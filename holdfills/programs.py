@@ -20,6 +20,18 @@ def need_program(holder, goal, program):
     for shape, pair in enumerate(program):
         if not is_filling_by(goal, holder[shape], pair):
             raise BadProgram((shape,))
+    return plain_program(program)
+
+
+def is_program(holder, goal, value):
+    """Tell whether a value is a program from a checked holder to a checked goal."""
+    if not is_tuple_of(value, len(holder)):
+        return False
+    return all([is_filling_by(goal, size, pair) for size, pair in zip(holder, value)])
+
+
+def plain_program(program):
+    """Return the program in plain tuples that is like a checked one."""
     return tuple([plain_filling(pair) for pair in program])
 
 
@@ -86,7 +98,7 @@ def program_of(holder, goal, answers):
     for size, answer in zip(holder, answers):
         if not is_filling_by(goal, size, answer):
             raise BadFilling(answer)
-    return tuple([plain_filling(answer) for answer in answers])
+    return plain_program(answers)
 
 
 def telling_things(size, one, other):

@@ -4,7 +4,7 @@ A standing has, for each shape, a pair (HERE, ROWS), and in ROWS, for each place
 shape, a filling of the holder by places of this shape: what is seen from there.
 """
 
-from holdfills.basics import is_below, is_tuple_of
+from holdfills.basics import first_broken, is_below, is_tuple_of
 from holdfills.errors import BadParameter, BadStanding, NoRow
 from holdfills.fillings import is_filling_by, plain_filling
 from holdfills.holders import need_holder
@@ -59,12 +59,7 @@ RULES = (broken_return, broken_stay, broken_here, broken_there, broken_beyond)
 
 def broken_rule(standing):
     """Return the first rule that what is formed as a standing breaks, with the least numbers; None if it keeps all."""
-    for rule in RULES:
-        # Each rule asks only what is there if those ahead of it are kept.
-        broken = rule(standing)
-        if broken:
-            return broken[0]
-    return None
+    return first_broken(RULES, standing)
 
 
 def need_standing(holder, standing):

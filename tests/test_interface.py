@@ -3,8 +3,8 @@
 import inspect
 import unittest
 
-from holdfills import comparers, counts, cuts, deeds, fillings, holders, inside, lots, needs, networks, partings
-from holdfills import powers, programs, rankers, risers, standings
+from holdfills import books, comparers, counts, cuts, deeds, exchanges, fillings, holders, inside, lands, lots, needs
+from holdfills import networks, partings, powers, programs, rankers, risers, standings, worlds
 
 INTERFACE = {
     holders: {
@@ -133,6 +133,41 @@ INTERFACE = {
         "look_all": ["land"],
         "standing_by": ["holder", "first", "second"],
     },
+    worlds: {
+        "world_of": ["land"],
+        "land_of": ["world"],
+        "all_standings": ["holder"],
+    },
+    lands: {
+        "land_added": ["one", "other"],
+        "land_beside": ["one", "other"],
+        "land_turned": ["land"],
+        "end_land": ["holder"],
+        "has_backs": ["land"],
+        "is_thin": ["land"],
+        "is_keeping": ["one", "other", "program"],
+        "broken_keeping": ["one", "other", "program"],
+        "all_keeping": ["one", "other"],
+    },
+    books: {
+        "need_book": ["holder", "book"],
+        "unit_filling": ["holder", "book", "thing"],
+        "flattened": ["holder", "book", "filling"],
+        "chained": ["holder", "book", "filling", "fillings"],
+        "all_books": ["holder"],
+        "only_book": ["places"],
+        "book_of_table": ["holder", "table"],
+        "table_of_book": ["holder", "book"],
+        "is_book_map": ["holder", "book", "goal", "other", "program"],
+        "product_book": ["holder", "book", "goal", "other"],
+    },
+    exchanges: {
+        "need_exchange": ["one", "other", "exchange"],
+        "all_exchanges": ["one", "other"],
+        "land_together": ["one", "other", "exchange"],
+        "first_look": ["one", "other"],
+        "second_look": ["one", "other"],
+    },
 }
 
 PASSED = {
@@ -148,6 +183,9 @@ RISER = ((0, (((0, 1),), ((0,), (1,)))), (1, (((0,),),)))
 STILL = ((0, (((0,),), ((1,),))), (1, (((0,),),)))
 KEEP = ((0, (0,)), (1, ()))
 BACK = ((0, ((0, (0, 1)), (0, (1, 0)))),)
+LAND = ((2,), BACK)
+WORLD = (1, ((0, 0), (0, 0)), (0,), ((0, 1), (1, 0)))
+MAYBE = (1, ((0, ()), (0, ()), (1, (0,))))
 # What is passed in one module alone.
 PASSED_THERE = {
     comparers: {"comparer": COMPARER, "first": COMPARER, "second": COMPARER, "one": COMPARER,
@@ -163,7 +201,12 @@ PASSED_THERE = {
     inside: {"one": (1, 0), "middle": (1, 0), "other": (1, 0), "inner": (1, 0), "holders": ((1, 0),) * 4, "first": KEEP,
              "second": KEEP, "shape": 0, "shapes": (1,), "number": 1, "fillings": ((0, (7,)),), "filling": (0, (7,))},
     powers: {"holder": (1,), "one": (1,), "other": (1,), "program": ((0, (0,)),)},
-    standings: {"holder": (2,), "standing": BACK, "land": ((2,), BACK), "first": ((0, (0,)),), "second": ((0, (0, 1, 1, 0)),)},
+    standings: {"holder": (2,), "standing": BACK, "land": LAND, "first": ((0, (0,)),), "second": ((0, (0, 1, 1, 0)),)},
+    worlds: {"land": LAND, "world": WORLD},
+    lands: {"land": LAND, "one": LAND, "other": ((1,), ((0, ((0, (0,)),)),)), "program": ((0, (1,)),)},
+    books: {"holder": (0, 1), "book": MAYBE, "thing": 5, "filling": (1, (0,)), "fillings": ((1, (7,)),), "places": 2,
+            "table": ((0, 0), (0, 1)), "goal": (0, 1), "other": MAYBE, "program": ((0, ()), (1, (0,)))},
+    exchanges: {"one": LAND, "other": LAND, "exchange": ((0, (0, 2, 1, 3)),)},
 }
 
 
@@ -188,6 +231,8 @@ class Interface(unittest.TestCase):
                 passed = {one: told[one] for one in parameters}
                 if name == "need_holder":
                     passed = {"value": (2, 1)}
+                if name == "flattened":
+                    passed["filling"] = (2, (7,))
                 function = getattr(module, name)
                 by_position = function(*passed.values())
                 self.assertEqual(function(**passed), by_position, name)

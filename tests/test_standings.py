@@ -3,85 +3,15 @@
 import unittest
 from itertools import product
 
-from holdfills.errors import BadHolder, BadParameter, BadProgram, BadStanding, NoRow, TooGreat
+from holdfills.errors import BadHolder, BadProgram, BadStanding, NoRow, TooGreat
 from holdfills.inside import fillings_out, put_into
 from holdfills.programs import need_program
 from holdfills.standings import look_all, look_here, need_land, need_standing, standing_by
+from landed import BACK, GREAT, LandCase, NO_HOLDER, ONWARD, TWO_ROOMS
+from landed import apart_land, blocks_land, first_broken, forms, seen_from, standings, turning
 from raising import Case
 from samples import MOST, Number, STRANGE, STRANGE_INTEGERS, STRANGE_TUPLES
 from samples import fillings, lead, plain_throughout, programs, rows
-
-GREAT = (12,) * 60
-WRONG = STRANGE + STRANGE_TUPLES + STRANGE_INTEGERS + [(13,), (-1,), (0,) * 61, [1], (1, None), ((1,),), 0, "12"]
-# On (2,): whoever is at the other place has come from here, or goes back and forth.
-ONWARD, BACK = ((0, ((0, (0, 1)), (0, (1, 1)))),), ((0, ((0, (0, 1)), (0, (1, 0)))),)
-# One room that sees the other one.
-TWO_ROOMS = ((0, ((0, (0, 1)), (1, (1,)))), (0, ((1, (0,)),)))
-
-
-def forms(holder):
-    """Return all that has the form of a standing of the holder, whether it keeps the rules or not."""
-    ways = []
-    for size in holder:
-        seen = [(there, beyond) for there, width in enumerate(holder) for beyond in rows(size, width)]
-        ways.append(list(product(range(size), product(seen, repeat=size))))
-    return product(*ways)
-
-
-def first_broken(holder, standing):
-    """Return the first rule that is broken, the least rule first, then the least numbers, or None."""
-    def here(s):
-        return standing[s][0]
-
-    def there(s, p):
-        return standing[s][1][p][0]
-
-    def beyond(s, p, q):
-        return standing[s][1][p][1][q]
-
-    def places(s):
-        return range(holder[s])
-
-    shapes = range(len(holder))
-    for s in shapes:
-        if there(s, here(s)) != s:
-            return 0, s
-    for s in shapes:
-        for p in places(s):
-            if beyond(s, here(s), p) != p:
-                return 1, s, p
-    for s in shapes:
-        for p in places(s):
-            if beyond(s, p, here(there(s, p))) != p:
-                return 2, s, p
-    for s in shapes:
-        for p in places(s):
-            for q in places(there(s, p)):
-                if there(s, beyond(s, p, q)) != there(there(s, p), q):
-                    return 3, s, p, q
-    for s in shapes:
-        for p in places(s):
-            for q in places(there(s, p)):
-                for r in places(there(there(s, p), q)):
-                    if beyond(s, p, beyond(there(s, p), q, r)) != beyond(s, beyond(s, p, q), r):
-                        return 4, s, p, q, r
-    return None
-
-
-def standings(holder):
-    """Return all standings of a holder, found apart from the program."""
-    return [form for form in forms(holder) if first_broken(holder, form) is None]
-
-
-def turning(size):
-    """Return the standing of (size,) in which places are added up, and the greatest of which goes back to here."""
-    return (0, tuple((0, tuple((one + other) % size for other in range(size))) for one in range(size)))
-
-
-def seen_from(standing, filling, place):
-    """Return the filling as it is seen from one of its places."""
-    there, beyond = standing[filling[0]][1][place]
-    return there, tuple(filling[1][at] for at in beyond)
 
 
 class NeedStanding(Case):
@@ -217,7 +147,7 @@ class NeedStanding(Case):
                 self.refused(BadStanding, {"place": (0,)}, need_standing, (0,), (value,))
 
     def test_what_is_no_holder(self):
-        for bad in WRONG:
+        for bad in NO_HOLDER:
             self.refused(BadHolder, {"value": bad}, need_standing, bad, None)
             self.refused(BadHolder, {"value": bad}, need_land, (bad, None))
             self.refused(BadHolder, {"value": bad}, standing_by, bad, None, None)
@@ -231,35 +161,19 @@ class NeedStanding(Case):
             self.assertTrue(plain_throughout(found))
 
 
-class NeedLand(Case):
+class NeedLand(LandCase):
 
     def test_lands_are_returned(self):
         for holder in ((), (1,), (2,), (1, 1), (2, 1)):
             for standing in standings(holder):
                 self.assertEqual(need_land((holder, standing)), (holder, standing))
 
-    def test_a_tuple_of_two_things(self):
-        wrong = STRANGE + STRANGE_INTEGERS + [(), ((2,),), ((2,), BACK, 0), [(2,), BACK], {(2,): BACK}, 0, "ab", {0: (2,), 1: BACK}]
-        for bad in wrong:
-            for function in (need_land, look_here, look_all):
-                self.refused(BadParameter, {"value": bad}, function, bad)
-
-    def test_then_the_errors_of_its_standing(self):
+    def test_the_errors_of_a_land(self):
         for function in (need_land, look_here, look_all):
-            for bad in WRONG:
-                self.refused(BadHolder, {"value": bad}, function, (bad, None))
-            for bad in STRANGE + STRANGE_INTEGERS + [(), BACK + BACK, list(BACK)]:
-                self.refused(BadStanding, {"place": ()}, function, ((2,), bad))
-            for bad in STRANGE + STRANGE_TUPLES + [(2, BACK[0][1]), (0, BACK[0][1][:1])]:
-                self.refused(BadStanding, {"place": (0,)}, function, ((2,), (bad,)))
-            self.refused(BadStanding, {"place": (1, 0, 0)}, function, ((2,), ((1,) + BACK[0][1:],)))
-            self.refused(BadStanding, {"place": (0, 0)}, function, ((1, 1), ((0, ((1, (0,)),)), (0, ((1, (0,)),)))))
-            self.refused(BadStanding, {"place": (0,)}, function, ((0,), ((0, ()),)))
-            # What is too great to be put into itself is refused only behind a standing.
-            self.refused(BadStanding, {"place": ()}, function, (GREAT, None))
+            self.asks_for_a_land(function)
 
     def test_lands_at_the_bounds(self):
-        good = tuple((0, tuple((room, tuple((p + q) % 12 for q in range(12))) for p in range(12))) for room in range(60))
+        _, good = apart_land(60, 12)
         self.assertEqual(self.quick(need_land, (GREAT, good)), (GREAT, good))
         self.assertEqual(self.quick(look_here, (GREAT, good)), ((0, (0,)),) * 60)
         self.refused(TooGreat, {"most": 60}, look_all, (GREAT, good))
@@ -268,9 +182,7 @@ class NeedLand(Case):
         wrong = good[:59] + ((0, good[59][1][:11] + ((last[0], last[1][:11] + (11,)),)),)
         self.assertEqual(first_broken(GREAT, wrong)[:2], (4, 59))
         self.refused(BadStanding, {"place": first_broken(GREAT, wrong)}, need_land, (GREAT, wrong))
-        # Twelve rooms that see one another all, five times.
-        blocks = tuple((room % 12, tuple((room // 12 * 12 + seen, tuple(range(12))) for seen in range(12)))
-                       for room in range(60))
+        _, blocks = blocks_land(60, 12)
         self.assertEqual(self.quick(need_land, (GREAT, blocks)), (GREAT, blocks))
 
 
