@@ -41,6 +41,13 @@ def need_many(many):
     return int(many)
 
 
+def need_from_one(most, value):
+    """Return an integer from 1 to `most`; BadParameter(value) for anything else."""
+    if not is_below(value, most + 1) or value == 0:
+        raise BadParameter(value)
+    return int(value)
+
+
 def need_listable(count):
     """Refuse to list or to try more things than the document allows."""
     if count > MOST_LISTED:

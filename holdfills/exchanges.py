@@ -14,12 +14,8 @@ from holdfills.standings import need_land
 
 
 def need_two(one, other):
-    """Return the holders and the standings of two lands; TooGreat if one can not be put into the other."""
-    first, ahead = need_land(one)
-    second, behind = need_land(other)
-    put_into(first, second)
-    put_into(second, first)
-    return first, ahead, second, behind
+    """Return the holders and the standings of two lands: HOLDER, STANDING, HOLDER, STANDING."""
+    return need_land(one) + need_land(other)
 
 
 def turns_of(first, second, exchange):
@@ -144,15 +140,11 @@ def land_together(one, other, exchange):
 
 def first_look(one, other):
     """Return the program to the holder of `one` that tells here of `other` in each thing."""
-    first, _ = need_land(one)
-    second, behind = need_land(other)
-    put_into(first, second)
+    first, _, second, behind = need_two(one, other)
     return tuple([here_in_each(behind, own) for own in all_own(first, second)])
 
 
 def second_look(one, other):
     """Return the program to the holder of `other` that tells the thing here of `one`."""
-    first, ahead = need_land(one)
-    second, _ = need_land(other)
-    put_into(first, second)
+    first, ahead, second, _ = need_two(one, other)
     return tuple([here_of(ahead, own) for own in all_own(first, second)])

@@ -55,10 +55,10 @@ def least_life(holder, life, stand):
     numbers = {classes[order[0]]: 0}
     number = 0
     while number < len(order):
-        for onward in life[order[number]][1]:
-            if classes[onward] not in numbers:
-                numbers[classes[onward]] = len(order)
-                order.append(onward)
+        for there in life[order[number]][1]:
+            if classes[there] not in numbers:
+                numbers[classes[there]] = len(order)
+                order.append(there)
         number += 1
     return tuple([(life[kept][0], tuple([numbers[classes[onward]] for onward in life[kept][1]])) for kept in order])
 

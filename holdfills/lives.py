@@ -3,7 +3,7 @@
 A stand (SHAPE, NEXT) of a life of so many stands is a filling of the holder by their numbers.
 """
 
-from holdfills.basics import MOST_LISTED, is_below, need_index
+from holdfills.basics import MOST_LISTED, is_below, need_from_one, need_index
 from holdfills.deeds import beside, in_each
 from holdfills.errors import BadLife, BadParameter, NoRow, TooGreat
 from holdfills.fillings import is_filling_by, plain_filling
@@ -16,9 +16,7 @@ MOST_STANDS = 40
 
 def need_stands(stands):
     """Return a number of stands, an integer from 1 to 40; BadParameter(stands) for anything else."""
-    if not is_below(stands, MOST_STANDS + 1) or stands == 0:
-        raise BadParameter(stands)
-    return int(stands)
+    return need_from_one(MOST_STANDS, stands)
 
 
 def need_few_stands(count):

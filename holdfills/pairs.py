@@ -4,7 +4,7 @@ A land of one room is kept as a pair (HERE, THEN): THEN[P][Q] is the place "P, t
 matched pair, MATCHED[Q][P] is the pair (P1, Q1) to which whoever goes Q and then P goes, too.
 """
 
-from holdfills.basics import all_rows, first_broken, is_below, is_tuple_of, need_listable, plain_row, power
+from holdfills.basics import all_rows, cut_row, first_broken, is_below, is_tuple_of, need_listable, plain_row, power
 from holdfills.deeds import need_few_places
 from holdfills.errors import BadExchange, BadParameter
 from holdfills.exchanges import need_exchange
@@ -123,13 +123,12 @@ def exchange_of(one, other, matched):
 
 def matched_of(one, other, exchange):
     """Return the matched pair that an exchange of two lands of one room is."""
-    _, then = need_room(one)
-    _, more = need_room(other)
-    need_few_places([len(then) * len(more)])
+    many = len(need_room(one)[1])
+    more = len(need_room(other)[1])
+    # What has more than 12 places is refused with the exchange, ahead of its own errors.
     _, places = need_exchange(one, other, exchange)[0]
-    pairs = [divmod(place, len(more)) for place in places]
-    many = len(then)
-    return tuple([tuple(pairs[start * many:(start + 1) * many]) for start in range(len(more))])
+    pairs = [divmod(place, more) for place in places]
+    return tuple(cut_row(pairs, [many for _ in range(more)]))
 
 
 def is_led_in(land, one, value):
@@ -174,4 +173,4 @@ def matched_by(land, one, other, split):
     for place, ahead in enumerate(first):
         for onward, behind in enumerate(second):
             pairs[then[ahead][behind]] = (place, onward)
-    return tuple([tuple([pairs[then[behind][ahead]] for ahead in first]) for behind in second])
+    return tuple([tuple([pairs[then[early][late]] for late in first]) for early in second])

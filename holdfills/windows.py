@@ -6,8 +6,8 @@ each shape for each view: a stand shows the view that is seen, and goes on by pu
 
 from math import factorial
 
-from holdfills.basics import is_below, is_tuple_of, need_listable, plain_row
-from holdfills.errors import BadParameter, BadWindow
+from holdfills.basics import is_below, is_tuple_of, need_from_one, need_listable, plain_row
+from holdfills.errors import BadWindow
 from holdfills.holders import MOST_PLACES
 from holdfills.lifts import broken_by, need_kept
 from holdfills.lives import need_stands
@@ -15,9 +15,7 @@ from holdfills.lives import need_stands
 
 def need_views(views):
     """Return a number of views, an integer from 1 to 12; BadParameter(views) for anything else."""
-    if not is_below(views, MOST_PLACES + 1) or views == 0:
-        raise BadParameter(views)
-    return int(views)
+    return need_from_one(MOST_PLACES, views)
 
 
 def land_of_views(views):

@@ -111,6 +111,12 @@ def list_ways(seen, ways, shape, place):
     return ways
 
 
+def seen_standing(holder, heres, seen):
+    """Return the standing with these places here, if all that is seen is told."""
+    shapes = list(enumerate(holder))
+    return tuple([(heres[shape], tuple([seen[(shape, place)] for place in range(size)])) for shape, size in shapes])
+
+
 def list_standings(holder, heres):
     """Return the list of all standings of a checked holder with these places here."""
     found = [{}]
@@ -120,9 +126,7 @@ def list_standings(holder, heres):
             grown = [{**seen, (shape, place): way} for seen in found for way in list_ways(seen, ways, shape, place)]
             # What does not fit is left at once: there are too many ways to tell of all places first.
             found = [seen for seen in grown if is_fitting(seen)]
-    shapes = list(enumerate(holder))
-    return [tuple([(heres[shape], tuple([seen[(shape, place)] for place in range(size)])) for shape, size in shapes])
-            for seen in found]
+    return [seen_standing(holder, heres, seen) for seen in found]
 
 
 def all_standings(holder):
