@@ -62,7 +62,7 @@ def unkept_thrice(holder, unit, flats):
     found = []
     for number, (middle, inner) in enumerate(list_parts(put_into(holder, holder), holder)):
         sizes = [holder[part] for part in inner]
-        own = list(zip(inner, cut_row(range(sum(sizes)), sizes)))
+        own = list(zip(inner, cut_row(list(range(sum(sizes))), sizes)))
         name = twice[middle]
         to, places = flats[name]
         outer_first = flat_by(flats, (to, [own[place] for place in places]))

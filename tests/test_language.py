@@ -2,8 +2,11 @@
 
 import ast
 import builtins
+import re
 import unittest
 from pathlib import Path
+
+from iterated import rows_against_l23
 
 PACKAGE = Path(__file__).resolve().parent.parent / "holdfills"
 FILES = sorted(PACKAGE.glob("**/*.py"))
@@ -26,6 +29,72 @@ BARRED = """register mro elements open input law version_info with_traceback add
     type typing enum Enum Flag Generic Protocol ABC namedtuple""".split()
 BARRED_STATEMENTS = (ast.Global, ast.AsyncFunctionDef, ast.AsyncFor, ast.AsyncWith, ast.Await)
 
+# Rows of a function of xs, ys, d and k that keep L23, and rows that do not.
+AT_ONCE = """for x in range(k): pass
+for x, y in zip(xs, ys): pass
+for x, (y, z) in enumerate(zip(xs, ys), start=1): pass
+for x in reversed(range(k)): pass
+return cut_row(list(range(sum(xs))), xs)
+return cut_row(row=tuple(range(k)), sizes=xs)
+return [x for x in range(k) for y in d.items()]
+return any([x in xs for x in reversed(ys)])
+return {x: y for x, y in zip(xs, ys)}, sum(x for x in d.values())
+return dict(zip(xs, ys)), list(zip(range(k), xs)), tuple(enumerate(xs)), sorted(d.items(), reverse=True)
+return sum(range(k)), any(d.values()), all(d.values()), max(d.values()), min(range(k), default=0)
+return ", ".join(d.keys()), len(range(k)), len(d.items()), k in range(9), k not in d.keys()
+r = range(k); return [x for x in r], [y for y in r], r[0], len(r), k in r, list(r), max(r)
+r = range(k); return [x for x in zip(xs, r)], list(enumerate(r)), list(reversed(r))
+v = d.items(); return [x for x in v], len(v), sorted(v), (k, k) in v""".split("\n")
+NOT_AT_ONCE = """return cut_row(range(sum(xs)), xs)
+own = list(zip(xs, cut_row(range(sum(ys)), ys)))
+return cut_row(row=range(k), sizes=xs)
+return cut_row(*range(k))
+return cut_row(zip(xs, ys), xs)
+return [cut_row(enumerate(xs), ys) for x in xs]
+return cut_row(reversed(xs), ys)
+return cut_row(d.items(), xs), k
+return cut_row(d.keys(), xs), k
+return cut_row(d.values(), xs), k
+return range(k)
+return [range(k)]
+return (zip(xs, ys), k)
+return {"a": range(k)}
+return range(k)[0]
+return range(k) == range(k)
+return list(range(k)) + xs if range(k) else xs
+return xs or range(k)
+return lambda: range(k)
+return zip(xs, range(k))
+return list(zip(xs, range(k)))
+return list(reversed(zip(xs, ys)))
+return len(zip(xs, ys))
+return max(range(k), k)
+return max(range(k), key=abs)
+return set(range(k))
+return isinstance(range(k), tuple)
+return xs.join(range(k))
+return k in d.values()
+a, b = range(2)
+xs[0] = range(k)
+xs.extend(range(k))
+xs += range(k)
+r = s = range(k)
+r: object = range(k)
+r = range(k); return r
+r = range(k); return cut_row(r, xs)
+r = range(k); return r == xs
+r = range(k); return r[1:]
+r = range(k); return [x for y in xs for x in (r or xs)]
+r = range(k); return lambda: list(r)
+r = range(k); return sum(x for x in r)
+r = range(k); return zip(xs, r)
+r = range(k); r = range(k + 1)
+xs = range(k)
+v = d.items(); return list(enumerate(v))
+v = d.keys(); return v[0]
+v = d.values(); return cut_row(v, xs)
+it = zip(xs, ys); return cut_row(it, xs)""".split("\n")
+
 
 def trees():
     return [(path, ast.parse(path.read_text(encoding="utf-8"))) for path in FILES]
@@ -37,6 +106,10 @@ def all_nodes(kinds):
 
 def is_read(name):
     return isinstance(name.ctx, ast.Load)
+
+
+def in_a_function(row):
+    return f"def told(xs, ys, d, k):\n    {row}\n"
 
 
 def names_at_top(path):
@@ -169,6 +242,27 @@ class Statements(unittest.TestCase):
         for path, node in all_nodes(ast.Compare):
             if any(isinstance(sign, (ast.Is, ast.IsNot)) for sign in node.ops):
                 self.assertIn(node.comparators[0].value, (None, True, False), path)
+
+    def test_l23_what_is_iterated_at_once_stands_nowhere_else(self):
+        for path in FILES:
+            self.assertEqual(rows_against_l23(path.read_text(encoding="utf-8")), [], path)
+
+    def test_l23_rows_that_keep_it_and_rows_that_do_not(self):
+        for row in AT_ONCE:
+            self.assertEqual(rows_against_l23(in_a_function(row)), [], row)
+        for row in NOT_AT_ONCE:
+            self.assertEqual(set(rows_against_l23(in_a_function(row))), {2}, row)
+        self.assertEqual(rows_against_l23("ROOMS = range(3)\n"), [1])
+
+    def test_l23_each_range_of_the_package_is_found_where_it_is_passed_on(self):
+        tried = 0
+        for path in FILES:
+            text = path.read_text(encoding="utf-8")
+            for found in re.finditer(r"(list|tuple)\(range\(", text):
+                changed = text[:found.start(1)] + "cut_row" + text[found.end(1):]
+                self.assertEqual(rows_against_l23(changed), [text.count("\n", 0, found.start()) + 1], path)
+                tried += 1
+        self.assertGreater(tried, 0)
 
     def test_l24_sets_stand_in_len_or_sorted(self):
         fitting = []
